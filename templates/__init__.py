@@ -1,0 +1,1 @@
+"""Templates: constraint satisfaction by polymorphisms."""

@@ -1,0 +1,30 @@
+"""The names and arguments of the interface, each one defined in the file that lists it."""
+
+import importlib
+import inspect
+import unittest
+
+INTERFACE = {
+    "relations": ["full(size, arity)", "meet(size, one, other)", "product(size, one, other)",
+                  "picked(size, relation, places)", "glued(size, relation, places)"],
+    "operations": ["apply(size, operation, arguments)", "projection(size, arity, place)",
+                   "compose(size, operation, inner)", "renamed_operation(size, operation, names)",
+                   "keeps(size, operation, relation)", "breaks(size, operation, relation)"],
+}
+
+
+class InterfaceTest(unittest.TestCase):
+
+    def test_functions(self):
+        for name, functions in INTERFACE.items():
+            module = importlib.import_module(f"templates.{name}")
+            for text in functions:
+                with self.subTest(module=name, function=text):
+                    function = getattr(module, text.partition("(")[0])
+                    self.assertTrue(inspect.isfunction(function))
+                    self.assertEqual(function.__module__, module.__name__)
+                    self.assertEqual(function.__name__ + str(inspect.signature(function)), text)
+
+
+if __name__ == "__main__":
+    unittest.main()
