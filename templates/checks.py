@@ -41,7 +41,7 @@ def is_relation(size, value):
         return False
     if not all(is_row(size, arity, row) for row in rows):
         return False
-    return all(row < following for row, following in zip(rows, rows[1:]))
+    return all([row < following for row, following in zip(rows, rows[1:])])
 
 
 def is_operation_arity(size, value):

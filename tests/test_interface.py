@@ -10,6 +10,15 @@ INTERFACE = {
     "operations": ["apply(size, operation, arguments)", "projection(size, arity, place)",
                    "compose(size, operation, inner)", "renamed_operation(size, operation, names)",
                    "keeps(size, operation, relation)", "breaks(size, operation, relation)"],
+    "structures": ["satisfies(template, instance, values)", "is_polymorphism(template, operation)",
+                   "renamed(template, names)"],
+    "texts": ["write(template)", "read(text)"],
+    "solving": ["solve(template, instance)", "solutions(template, instance)", "count_solutions(template, instance)",
+                "refutation(template, instance)", "conflict(template, instance)",
+                "shows_refutation(template, instance, value)", "shows_conflict(template, instance, value)",
+                "told_by(template, instance, variables)"],
+    "clones": ["polymorphisms(template, arity)", "generated(size, operations, arity)",
+               "term_for(size, operations, goal)", "run_term(size, operations, arity, term)"],
 }
 
 

@@ -1,0 +1,38 @@
+"""The examples of the interface, as they stand there."""
+
+import unittest
+
+from templates.clones import generated, polymorphisms, run_term
+from templates.operations import breaks, keeps
+from templates.solving import conflict, count_solutions, refutation, solve, told_by
+from templates.texts import read, write
+from tests.tools import told
+
+
+class ExamplesTest(unittest.TestCase):
+
+    def test_operations(self):
+        lesser = (2, (0, 0, 0, 1))
+        said = [keeps(2, lesser, (2, ((0, 0), (0, 1), (1, 1)))), breaks(2, lesser, (2, ((0, 1), (1, 0))))]
+        self.assertEqual(said, [True, ((0, 1), (1, 0))])
+
+    def test_texts(self):
+        self.assertEqual(write((2, ((2, ((0, 1), (1, 0))), (1, ((1,),))))), "size 2\nrelation 2 01 10\nrelation 1 1")
+        self.assertEqual(told(read, "size 2\nrelation 2 01 02"), ("InvalidText", {"line": 2, "word": 4}))
+
+    def test_solving(self):
+        unlike = (2, ((2, ((0, 1), (1, 0))),))
+        ring = (3, ((0, (0, 1)), (0, (1, 2)), (0, (2, 0))))
+        line = (3, ((0, (0, 1)), (0, (1, 2))))
+        said = [solve(unlike, line), count_solutions(unlike, line), told_by(unlike, line, (0, 2)), conflict(unlike, ring),
+                refutation(unlike, (1, ((0, (0, 0)),)))]
+        self.assertEqual(said, [(0, 1, 0), 2, (2, ((0, 0), (1, 1))), (0, 1, 2), ("clash", 0)])
+
+    def test_clones(self):
+        said = [polymorphisms((2, ((2, ((0, 1), (1, 0))),)), 1), generated(2, ((2, (0, 0, 0, 1)),), 2)]
+        self.assertEqual(said, [[(1, (0, 1)), (1, (1, 0))], [(2, (0, 0, 0, 1)), (2, (0, 0, 1, 1)), (2, (0, 1, 0, 1))]])
+        self.assertEqual(run_term(2, ((2, (1, 1, 1, 0)),), 1, (("input", 0), ("apply", 0, (0, 0)))), (1, (1, 0)))
+
+
+if __name__ == "__main__":
+    unittest.main()
