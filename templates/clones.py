@@ -1,5 +1,6 @@
 """Polymorphisms of templates, and operations made of given ones."""
 
+from templates.carrying import carried_scopes, check_carried
 from templates.checks import (
     are_places, check_given, check_operation, check_operation_arity, check_size, is_integer, is_tuple, power_of)
 from templates.errors import BadTerm, TooMany
@@ -10,17 +11,15 @@ from templates.structures import check_template
 from templates.tables import TableStore
 
 MOST_MADE = 2000
-MOST_TUPLES = 4000
 LONGEST_TERM = 2000
 
 
 def polymorphisms(template, arity):
     """The ascending list of all polymorphisms of an arity."""
     check_template(template)
-    size, relations = template
+    size = template[0]
     check_operation_arity(size, arity)
-    if sum([power_of(len(relation[1]), arity) for relation in relations]) > MOST_TUPLES:
-        raise TooMany(MOST_TUPLES)
+    check_carried(template, (arity,))
     network = polymorphism_network(template, arity)
     tables = ascending(network, list(range(power_of(size, arity))), MOST_MADE + 1)
     if len(tables) > MOST_MADE:
@@ -30,22 +29,9 @@ def polymorphisms(template, arity):
 
 def polymorphism_network(template, arity):
     """The network whose variables are the places in tables, and whose solutions are polymorphisms."""
-    size, relations = template
     store = TableStore(template)
-    constraints = {}
-    for index, relation in enumerate(relations):
-        for scope in _scopes(size, relation, arity):
-            constraints[index, scope] = True
-    return Network(size, power_of(size, arity), [store.constraint(index, scope) for index, scope in constraints])
-
-
-def _scopes(size, relation, arity):
-    """For each tuple of so many rows, the places in a table at which an operation has what it carries them to."""
-    width, rows = relation
-    scopes = [(0,) * width]
-    for _ in range(arity):
-        scopes = [tuple([place * size + value for place, value in zip(scope, row)]) for scope in scopes for row in rows]
-    return scopes
+    constraints = [store.constraint(index, scope) for index, scope in carried_scopes(template, arity)]
+    return Network(template[0], power_of(template[0], arity), constraints)
 
 
 def generated(size, operations, arity):

@@ -73,55 +73,67 @@ def values_of(mask):
     return [value for value in range(mask.bit_length()) if (mask >> value) & 1]
 
 
-def solution(network, masks):
-    """Some masks of single values under all constraints, within settled masks, None if there are none."""
-    for part in _parts(network, masks, list(range(len(network.touching)))):
-        masks = _split(network, masks, part)
-        if masks is None:
+def pinned(network, pins):
+    """The masks that are left when variables have values, told as pairs; None if that leaves none."""
+    masks = start(network)
+    for variable, value in pins:
+        if masks is None or not (masks[variable] >> value) & 1:
             return None
+        masks = assigned(network, masks, variable, value)
     return masks
 
 
-def _split(network, masks, part):
-    """Like solution, for open variables that constraints join with each other and with no other ones.
-
-    Nothing that is chosen elsewhere changes what they can have, so that a part without
-    a solution ends the search.
-    """
-    variable = min(part, key=lambda k: (BIT_COUNTS[masks[k]], -len(network.touching[k]), k))
-    for value in values_of(masks[variable]):
-        trial = assigned(network, masks, variable, value)
-        if trial is None:
-            continue
-        for piece in _parts(network, trial, part):
-            trial = _split(network, trial, piece)
-            if trial is None:
-                break
-        if trial is not None:
-            return trial
+def solution(network, masks):
+    """Some masks of single values under all constraints, within settled masks, None if there are none."""
+    choices = []
+    while masks is not None:
+        variable = _open_variable(network, masks)
+        if variable is None:
+            # The least values, for the variables that no constraint touches.
+            return [mask & -mask for mask in masks]
+        choices.append((masks, variable, values_of(masks[variable])))
+        masks = _gone_on(network, choices)
     return None
 
 
-def _parts(network, masks, variables):
-    """The parts of the open variables among these, those with several values, that constraints still join."""
-    parts = []
+def _open_variable(network, masks):
+    """The variable to choose a value for next, None if each one that a constraint touches has a single value."""
+    left = [k for k, mask in enumerate(masks) if BIT_COUNTS[mask] > 1 and network.touching[k]]
+    return min(left, key=lambda k: (BIT_COUNTS[masks[k]], -len(network.touching[k]), k), default=None)
+
+
+def _gone_on(network, choices):
+    """The masks behind the next value of the latest choice that has one, None if none has.
+
+    Takes away the values tried and the choices without further ones.
+    """
+    while choices:
+        masks, variable, left = choices[-1]
+        while left:
+            trial = assigned(network, masks, variable, left.pop(0))
+            if trial is not None:
+                return trial
+        choices.pop()
+        # A choice that constraints do not join with the variable does not change what it can have.
+        while choices and not _are_joined(network, choices[-1][0], choices[-1][1], variable):
+            choices.pop()
+    return None
+
+
+def _are_joined(network, masks, one, other):
+    """Whether constraints that still tell something join two open variables."""
     met = [False] * len(network.touching)
     passed = [False] * len(network.scopes)
-    for first in variables:
-        if met[first] or BIT_COUNTS[masks[first]] == 1:
-            continue
-        met[first] = True
-        part = [first]
-        at = 0
-        while at < len(part):
-            variable = part[at]
-            for index in network.touching[variable]:
-                if not passed[index]:
-                    passed[index] = True
-                    _gather(network, masks, index, met, part)
-            at += 1
-        parts.append(part)
-    return parts
+    met[one] = True
+    part = [one]
+    at = 0
+    while at < len(part) and not met[other]:
+        for index in network.touching[part[at]]:
+            if not passed[index]:
+                passed[index] = True
+                _gather(network, masks, index, met, part)
+        at += 1
+    return met[other]
 
 
 def _gather(network, masks, index, met, part):

@@ -75,11 +75,8 @@ class TableStore:
         self.made = {}
 
     def constraint(self, index, scope):
-        """The pair (different variables, table) that says what a constraint says."""
-        variables = []
-        for variable in scope:
-            if variable not in variables:
-                variables.append(variable)
+        """The pair (ascending tuple of different variables, table) that says what a constraint says."""
+        variables = sorted(set(scope))
         pattern = tuple([variables.index(variable) for variable in scope])
         if (index, pattern) not in self.made:
             size, relations = self.template
@@ -91,7 +88,7 @@ class TableStore:
 def fitting_rows(rows, pattern):
     """The values of the different variables of a scope, for each row that gives each one value.
 
-    The pattern tells for each place of the scope which of the variables stands there.
+    The pattern tells for each place of the scope the number, from 0, of the variable that stands there.
     """
     fitting = []
     for row in rows:

@@ -3,7 +3,9 @@
 import unittest
 
 from templates.clones import generated, polymorphisms, run_term
+from templates.formulas import definable, hull, tells
 from templates.operations import breaks, keeps
+from templates.pairs import pairs_of
 from templates.solving import conflict, count_solutions, refutation, solve, told_by
 from templates.texts import read, write
 from tests.tools import told
@@ -32,6 +34,17 @@ class ExamplesTest(unittest.TestCase):
         said = [polymorphisms((2, ((2, ((0, 1), (1, 0))),)), 1), generated(2, ((2, (0, 0, 0, 1)),), 2)]
         self.assertEqual(said, [[(1, (0, 1)), (1, (1, 0))], [(2, (0, 0, 0, 1)), (2, (0, 0, 1, 1)), (2, (0, 1, 0, 1))]])
         self.assertEqual(run_term(2, ((2, (1, 1, 1, 0)),), 1, (("input", 0), ("apply", 0, (0, 0)))), (1, (1, 0)))
+
+    def test_formulas(self):
+        order = (2, ((2, ((0, 0), (0, 1), (1, 1))),))
+        said = [tells(order, (2, 1, ((0, (0, 2)), (0, (1, 2)), (0, (2, 0))))), hull(order, (2, ((0, 1), (1, 0)))),
+                definable(order, (1, ((0,),)))]
+        self.assertEqual(said, [(2, ((0, 0), (1, 0), (1, 1))), (2, ((0, 0), (0, 1), (1, 0), (1, 1))), False])
+
+    def test_pairs(self):
+        unlike = (2, ((2, ((0, 1), (1, 0))),))
+        said = [pairs_of(unlike, (2, ((0, (0, 1)),))), pairs_of(unlike, (3, ((0, (0, 1)), (0, (1, 2)), (0, (2, 0)))))]
+        self.assertEqual(said, [(((0, 0), (1, 1)), ((0, 1), (1, 0)), ((0, 0), (1, 1))), None])
 
 
 if __name__ == "__main__":

@@ -19,6 +19,12 @@ INTERFACE = {
                 "told_by(template, instance, variables)"],
     "clones": ["polymorphisms(template, arity)", "generated(size, operations, arity)",
                "term_for(size, operations, goal)", "run_term(size, operations, arity, term)"],
+    "invariants": ["invariants(size, operations, arity)"],
+    "formulas": ["tells(template, formula)", "hull(template, relation)", "hull_formula(template, relation)",
+                 "definable(template, relation)", "shows_escape(template, relation, value)",
+                 "formula_for(template, relation)", "escape(template, relation)"],
+    "conditions": ["find_operations(template, condition)", "majority(template)", "maltsev(template)"],
+    "pairs": ["is_decomposed(size, relation)", "pairs_of(template, instance)"],
 }
 
 
