@@ -2,10 +2,13 @@
 
 import unittest
 
+from templates.affine import equations
+from templates.arcs import arc_domains, set_map
 from templates.clones import generated, polymorphisms, run_term
 from templates.formulas import definable, hull, tells
 from templates.operations import breaks, keeps
 from templates.pairs import pairs_of
+from templates.refusals import arc_refusal, shows_pair_refusal
 from templates.solving import conflict, count_solutions, refutation, solve, told_by
 from templates.texts import read, write
 from tests.tools import told
@@ -45,6 +48,20 @@ class ExamplesTest(unittest.TestCase):
         unlike = (2, ((2, ((0, 1), (1, 0))),))
         said = [pairs_of(unlike, (2, ((0, (0, 1)),))), pairs_of(unlike, (3, ((0, (0, 1)), (0, (1, 2)), (0, (2, 0)))))]
         self.assertEqual(said, [(((0, 0), (1, 1)), ((0, 1), (1, 0)), ((0, 0), (1, 1))), None])
+
+    def test_affine(self):
+        self.assertEqual(equations(3, (2, ((0, 1), (1, 2), (2, 0)))), ((1, 2, 2),))
+
+    def test_arcs(self):
+        horn = (2, ((2, ((0, 0), (0, 1), (1, 1))), (1, ((1,),))))
+        said = [arc_domains(horn, (3, ((1, (0,)), (0, (0, 1))))), set_map((2, ((2, ((0, 1), (1, 0))),)))]
+        self.assertEqual(said, [((1,), (1,), (0, 1)), None])
+
+    def test_refusals(self):
+        only = (2, ((1, ((0,),)), (1, ((1,),))))
+        steps = ((0, 0, 1, 1, "row", 0), (0, 0, 0, 0, "row", 1))
+        said = [arc_refusal(only, (1, ((0, (0,)),))), shows_pair_refusal(only, (1, ((0, (0,)), (1, (0,)))), steps)]
+        self.assertEqual(said, [None, True])
 
 
 if __name__ == "__main__":

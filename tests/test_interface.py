@@ -25,6 +25,12 @@ INTERFACE = {
                  "formula_for(template, relation)", "escape(template, relation)"],
     "conditions": ["find_operations(template, condition)", "majority(template)", "maltsev(template)"],
     "pairs": ["is_decomposed(size, relation)", "pairs_of(template, instance)"],
+    "forks": ["forks(size, relation)", "compact(size, relation)", "closure(size, operation, relation)"],
+    "affine": ["is_affine(size, relation)", "equations(size, relation)", "count_affine(template, instance)"],
+    "arcs": ["arc_domains(template, instance)", "is_acyclic(template, instance)", "set_map(template)",
+             "shows_set_map(template, value)", "set_instance(template)"],
+    "refusals": ["pair_refusal(template, instance)", "shows_pair_refusal(template, instance, value)",
+                 "arc_refusal(template, instance)", "shows_arc_refusal(template, instance, value)"],
 }
 
 
