@@ -20,9 +20,10 @@ def invariants(size, operations, arity):
     parts = [()]
     for row in all_rows(size, arity):
         parts = parts + [part + (row,) for part in parts]
-    return [(arity, part) for part in sorted(parts) if all(_is_kept(arity, part, told) for told in steps)]
+    return [(arity, rows) for rows in sorted(parts) if _is_kept(arity, rows, steps)]
 
 
 def _is_kept(arity, rows, steps):
-    """Whether the operation with these steps keeps the relation of the rows."""
-    return BreakSearch(steps, rows).least(0, (0,) * arity) is None
+    """Whether the operations with these steps keep the relation of the rows."""
+    beginning = (0,) * arity
+    return all(BreakSearch(told, rows).least(0, beginning) is None for told in steps)

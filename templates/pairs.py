@@ -11,14 +11,13 @@ def is_decomposed(size, relation):
     check_size(size)
     check_relation(size, relation)
     arity, rows = relation
-    places = [(one, other) for one in range(arity) for other in range(one, arity)]
-    held = [{(row[one], row[other]): True for row in rows} for one, other in places]
-    having = 0
-    for row in all_rows(size, arity):
-        if all([(row[one], row[other]) in known for (one, other), known in zip(places, held)]):
-            having += 1
+    told = all_rows(size, arity)
+    for one in range(arity):
+        for other in range(one, arity):
+            held = {(row[one], row[other]): True for row in rows}
+            told = [row for row in told if (row[one], row[other]) in held]
     # The rows of the relation are among those that have such pairs.
-    return having == len(rows)
+    return len(told) == len(rows)
 
 
 def pairs_of(template, instance):

@@ -280,6 +280,12 @@ class ShowsSetMapTest(unittest.TestCase):
         self.assertIs(shows_set_map(HORN, self.right), True)
         self.assertIs(shows_set_map(UNLIKE, self.right), False)
 
+    def test_images_are_values(self):
+        for size in range(1, 5):
+            for image in [-1, size, size + 1, 10 ** 40, True, None, "0", (0,)] + list(range(size)):
+                value = tuple((part, image if part == (size - 1,) else 0) for part in sets_of(size))
+                self.assertIs(shows_set_map((size, ()), value), type(image) is int and 0 <= image < size)
+
     def test_values_of_all_kinds(self):
         for template in (HORN, (1, ()), (4, ())):
             for value in ODD + [(value,) for value in ODD] + [(((0,), 0), value, ((1,), 1)) for value in ODD]:

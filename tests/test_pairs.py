@@ -79,6 +79,10 @@ def some_questions(many, seed):
         loose = chance.sample(rows_of(size, 2), size * size - chance.randint(1, size))
         template = (size, ((2, tuple(sorted(loose))),))
         yield template, some_instance(template, chance.randint(2, 5), chance.randint(2, 9), chance)
+        # Several such relations, so that two variables lose their pairs one after the other.
+        loose = [chance.sample(rows_of(size, 2), max(1, size * size * chance.randint(5, 9) // 10)) for _ in range(3)]
+        template = (size, tuple((2, tuple(sorted(rows))) for rows in loose))
+        yield template, some_instance(template, chance.randint(4, 5), chance.randint(6, 12), chance)
 
 
 class DecomposedTest(unittest.TestCase):
@@ -192,9 +196,9 @@ class PairsTest(unittest.TestCase):
 
     def test_many_variables(self):
         chance = random.Random(6)
-        for _ in range(3):
-            template = (4, ((2, tuple(sorted(chance.sample(rows_of(4, 2), 10)))),))
-            instance = some_instance(template, 9, 12, chance)
+        for many in (12, 16, 20) * 4:
+            template = (4, tuple((2, tuple(sorted(chance.sample(rows_of(4, 2), 12)))) for _ in range(3)))
+            instance = some_instance(template, 8, many, chance)
             self.assertEqual(pairs_of(template, instance), plain_answer(template, instance))
         chain = (16, tuple((0, (k, k + 1)) for k in range(15)))
         left = dict(zip(itertools.combinations_with_replacement(range(16), 2), pairs_of(UNLIKE, chain)))

@@ -204,6 +204,9 @@ class ShowsPairRefusalTest(unittest.TestCase):
                     if step != self.right[at]:
                         with self.subTest(place=place, value=shown(value), at=at):
                             self.assertIs(shows_pair_refusal(UNLIKE, RING, steps), False)
+        for step in [(0, 1, 2, 0, "row", 0), (0, 1, 0, 2, "row", 0), (2, 2, 2, 2, "third", 0), (3, 0, 0, 0, "third", 0),
+                     (0, 3, 0, 0, "row", 0), (0, 1, 0, 0, "third", 3), (0, 1, 0, 0, "row", 3)]:
+            self.assertIs(shows_pair_refusal(UNLIKE, RING, (step,) + self.right), False)
         for value in WRONG + [self.right[0][:5], self.right[0] + (0,), list(self.right[0])]:
             self.assertIs(shows_pair_refusal(UNLIKE, RING, (value,) + self.right[1:]), False)
 
