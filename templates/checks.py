@@ -22,6 +22,11 @@ def is_integer(value, low, high):
     return isinstance(value, int) and not isinstance(value, bool) and low <= value <= high
 
 
+def is_positive(value):
+    """Whether a value is an integer of at least 1, however great."""
+    return isinstance(value, int) and not isinstance(value, bool) and value > 0
+
+
 def is_tuple(value, low, high):
     """Whether a value is a tuple of low to high things."""
     return isinstance(value, tuple) and low <= len(value) <= high

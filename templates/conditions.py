@@ -22,7 +22,7 @@ def find_operations(template, condition):
     check_template(template)
     check_condition(template[0], condition)
     check_carried(template, condition[0])
-    return _found(template, condition)
+    return meeting(template, condition, MOST_LETTERS)
 
 
 def majority(template):
@@ -63,8 +63,8 @@ def _is_side(arities, value):
     return are_places(value[1], arities[value[0]], arities[value[0]], MOST_LETTERS)
 
 
-def _found(template, condition):
-    """A tuple of polymorphisms that meet a condition, None if there are none.
+def meeting(template, condition, letters):
+    """A tuple of polymorphisms that meet a condition in so many variables, None if there are none.
 
     The things that are merged are first the values, then the places of the tables.
     """
@@ -73,7 +73,7 @@ def _found(template, condition):
     beginnings = _beginnings(size, arities)
     merging = Merging(beginnings[-1])
     for one, other in equations:
-        for values in all_rows(size, MOST_LETTERS):
+        for values in all_rows(size, letters):
             merging.merge(_thing(size, beginnings, one, values), _thing(size, beginnings, other, values))
     numbers = merging.numbered()
     if numbers[:size] != list(range(size)):

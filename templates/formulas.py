@@ -19,16 +19,27 @@ LONGEST_TABLE = 256
 
 def check_formula(template, formula):
     """Raises BadFormula for a value that is no formula over a right template."""
-    if not is_tuple(formula, 3, 3):
+    if not _has_form(formula):
         raise BadFormula(None)
     free, hidden, atoms = formula
-    if not is_integer(free, 1, MOST_FREE) or not is_integer(hidden, 0, MOST_HIDDEN):
-        raise BadFormula(None)
-    if not is_tuple(atoms, 0, MOST_ATOMS):
-        raise BadFormula(None)
     for index, atom in enumerate(atoms):
         if not _is_atom(template, free + hidden, atom):
             raise BadFormula(index)
+
+
+def is_formula(template, value):
+    """Whether a value is a formula over a right template."""
+    return _has_form(value) and all(_is_atom(template, value[0] + value[1], atom) for atom in value[2])
+
+
+def _has_form(value):
+    """Whether a value is a tuple of two numbers of variables and a tuple of things."""
+    if not is_tuple(value, 3, 3):
+        return False
+    free, hidden, atoms = value
+    if not is_integer(free, 1, MOST_FREE) or not is_integer(hidden, 0, MOST_HIDDEN):
+        return False
+    return is_tuple(atoms, 0, MOST_ATOMS)
 
 
 def _is_atom(template, variables, value):
