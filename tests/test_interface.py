@@ -31,6 +31,22 @@ INTERFACE = {
              "shows_set_map(template, value)", "set_instance(template)"],
     "refusals": ["pair_refusal(template, instance)", "shows_pair_refusal(template, instance, value)",
                  "arc_refusal(template, instance)", "shows_arc_refusal(template, instance, value)"],
+    "booleans": ["kinds(template)", "has_not(template)", "gadget(template)", "classes(operations)",
+                 "nand_term(operations)"],
+    "powers": ["power(template, many, formulas)", "unfolded(template, many, formulas, instance)",
+               "power_operation(size, many, operation)"],
+    "maps": ["maps(one, other)", "any_map(one, other)", "isomorphism(one, other)", "both_ways(one, other)",
+             "times(one, other)", "as_instance(template)", "core(template)", "is_core(template)",
+             "shows_core(template, value)"],
+    "graphs": ["graph(size, edges)", "two_sides(size, edges)", "odd_walk(size, edges)",
+               "shows_odd_walk(size, edges, value)"],
+    "taylor": ["siggers(template)", "cyclic(template, arity)", "weak_pair(template)", "blocker(template)",
+               "shows_blocker(template, value)"],
+    "costs": ["least_cost(costs, instance)", "relaxed(costs, instance)"],
+    "weights": ["weights(costs)", "shows_weights(costs, value)", "gap_instance(costs)", "is_submodular(costs)",
+                "least_by_cut(costs, instance)"],
+    "counts": ["map_count(one, other)", "onto_count(one, other)", "lone_count(one, other)", "folds(template)",
+               "count_gap(one, other)"],
 }
 
 

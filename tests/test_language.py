@@ -8,6 +8,10 @@ import unittest
 PACKAGE = pathlib.Path(__file__).resolve().parent.parent / "templates"
 FILES = sorted(PACKAGE.glob("*.py"))
 
+LIBRARY = {"math": {"gcd"}, "itertools": {"combinations"}}
+GONE_OVER = {"list", "tuple", "dict", "sorted", "sum", "any", "all", "enumerate", "zip", "min", "max", "len"}
+CHANGES = {"append", "clear", "extend", "insert", "pop", "remove", "reverse", "setdefault", "update", "add", "discard"}
+
 BUILTINS = set("""len range enumerate zip min max sum abs sorted reversed int str bool bytes list tuple dict set
     isinstance ord repr any all divmod Exception ValueError TypeError KeyError IndexError LookupError
     ZeroDivisionError ArithmeticError OverflowError RuntimeError NotImplementedError AttributeError""".split())
@@ -43,6 +47,26 @@ def bound_names(tree):
         elif isinstance(node, ast.alias):
             names.add(node.name)
     return names
+
+
+def is_passing(node):
+    """Whether a node makes a range, a zip or a view, which is not kept."""
+    if not isinstance(node, ast.Call):
+        return False
+    if isinstance(node.func, ast.Name):
+        return node.func.id in ("range", "zip", "enumerate", "reversed")
+    return isinstance(node.func, ast.Attribute) and node.func.attr in ("items", "keys", "values") and not node.args
+
+
+def is_gone_over(node, parent):
+    if isinstance(parent, (ast.For, ast.comprehension)):
+        return parent.iter is node
+    if isinstance(parent, ast.Call):
+        called = getattr(parent.func, "id", "")
+        if called == "reversed":
+            return getattr(node.func, "id", "") == "range"
+        return called == "zip" or (called in GONE_OVER and parent.args[0] is node)
+    return isinstance(parent, ast.Assign) and node.func.id == "range"
 
 
 class FormTest(unittest.TestCase):
@@ -87,13 +111,48 @@ class FormTest(unittest.TestCase):
                    for path, tree in trees()}
         for name, node in nodes(ast.ImportFrom):
             package, _, module = node.module.partition(".")
-            self.assertEqual((package, node.level), ("templates", 0), name)
+            self.assertEqual(node.level, 0, name)
+            if package in LIBRARY:
+                self.assertLessEqual({alias.name for alias in node.names}, LIBRARY[package], name)
+                continue
+            self.assertEqual(package, "templates", name)
             for alias in node.names:
                 self.assertIn(alias.name, defined[module], name)
                 self.assertIsNone(alias.asname, name)
 
+    def test_names_of_the_library_are_only_called(self):
+        for path, tree in trees():
+            borrowed = {alias.name for node in tree.body if isinstance(node, ast.ImportFrom) and node.module in LIBRARY
+                        for alias in node.names}
+            called = [node.func for node in ast.walk(tree) if isinstance(node, ast.Call)]
+            for node in ast.walk(tree):
+                if isinstance(node, ast.Name) and node.id in borrowed:
+                    self.assertIn(node, called, (path.name, node.lineno))
+                elif isinstance(node, (ast.arg, ast.FunctionDef)):
+                    self.assertNotIn(getattr(node, "arg", getattr(node, "name", None)), borrowed, path.name)
+
+    def test_ranges_and_views_are_gone_over_at_once(self):
+        for path, tree in trees():
+            parents = {child: node for node in ast.walk(tree) for child in ast.iter_child_nodes(node)}
+            for node in ast.walk(tree):
+                if is_passing(node):
+                    self.assertTrue(is_gone_over(node, parents[node]), (path.name, node.lineno))
+
+    def test_loops_do_not_change_what_they_go_over(self):
+        for name, loop in nodes(ast.For):
+            over = {ast.unparse(part) for part in ast.walk(loop.iter) if isinstance(part, (ast.Name, ast.Attribute))}
+            if isinstance(loop.iter, ast.Call) and getattr(loop.iter.func, "id", "") in ("list", "range", "sorted"):
+                over = set()
+            for node in [part for statement in loop.body for part in ast.walk(statement)]:
+                if isinstance(node, (ast.Subscript, ast.Attribute)) and isinstance(node.ctx, ast.Store):
+                    whole = node.value if isinstance(node, ast.Subscript) else node
+                    self.assertNotIn(ast.unparse(whole), over, (name, node.lineno))
+                if isinstance(node, ast.Call) and getattr(node.func, "attr", "") in CHANGES:
+                    self.assertNotIn(ast.unparse(node.func.value), over, (name, node.lineno))
+
     def test_no_imports_in_a_circle(self):
-        wanted = {path.stem: {node.module.partition(".")[2] for node in tree.body if isinstance(node, ast.ImportFrom)}
+        wanted = {path.stem: {node.module.partition(".")[2] for node in tree.body
+                              if isinstance(node, ast.ImportFrom) and node.module not in LIBRARY}
                   for path, tree in trees()}
         while wanted:
             free = [name for name, others in wanted.items() if not others & set(wanted)]
