@@ -1,5 +1,7 @@
 """Costs with two values: the weights of operations that lower them, and least costs by cuts."""
 
+from math import gcd
+
 from templates.checks import is_operation, is_tuple
 from templates.costs import check_costs, check_terms, cost_of
 from templates.errors import NotBinary, NotSubmodular
@@ -63,16 +65,15 @@ class Game:
         self.operations = _symmetric_operations()
         self.questions = _questions(costs)
         rows = [[_excess(costs, question, operation) for operation in self.operations] for question in self.questions]
-        # A row that asks nothing, so that there is one even without functions.
+        # A row that asks nothing, so that the value of the game is at least 0.
         rows.append([0] * len(self.operations))
-        # With only positive entries, amounts within the bounds 1 have the sum 1 / value of the game.
-        self.lift = 1 - min([min(row) for row in rows])
-        lifted = [[entry + self.lift for entry in row] for row in rows]
+        # With 1 added to all entries, amounts within the bounds 1 have the greatest sum 1 / (1 + value).
+        lifted = [[entry + 1 for entry in row] for row in rows]
         self.simplex = Simplex(lifted, [1] * len(rows), [1] * len(self.operations))
 
     def is_gap(self):
-        """Whether the value of the game, before it was lifted, is positive."""
-        return self.lift * self.simplex.gain() < self.simplex.unit
+        """Whether the value of the game is positive."""
+        return self.simplex.gain() < self.simplex.unit
 
     def weighed(self):
         """The operations with the ratios by which the first side weighs them."""
@@ -87,10 +88,13 @@ class Game:
         where they differ, so that an assignment is a symmetric operation.
         """
         prices = self.simplex.prices()[len(self.operations):]
+        shared = 0
+        for price in prices:
+            shared = gcd(shared, price)
         terms = []
-        for (index, row, other), weight in zip(self.questions, prices):
-            if weight > 0:
-                terms.append((index, tuple([one + two for one, two in zip(row, other)]), weight))
+        for (index, row, other), price in zip(self.questions, prices):
+            if price > 0:
+                terms.append((index, tuple([one + two for one, two in zip(row, other)]), price // shared))
         return tuple(terms)
 
 
@@ -138,8 +142,7 @@ def least_by_cut(costs, instance):
     """The least cost of an assignment, and the least assignment that has it, found by a flow."""
     check_costs(costs)
     check_terms(costs, instance)
-    if costs[0] != 2:
-        raise NotBinary("the costs have not just two values")
+    # is_submodular raises NotBinary, too.
     if not is_submodular(costs):
         raise NotSubmodular("the costs are not submodular")
     values = near_side(_capacities(costs, instance))

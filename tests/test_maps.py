@@ -285,6 +285,15 @@ class CoreTest(unittest.TestCase):
         self.assertIs(shows_core(ring, ((0, 1), moving)), False)
         self.assertIs(shows_core(ring, ((0, 1), (0, 1, 0, 1))), True)
 
+    def test_a_map_that_fixes_only_some_of_its_values(self):
+        # A ring of three, and a value beside one of them: the map fixes 0 and exchanges 1 and 2.
+        kite = (4, ((2, ((0, 1), (0, 2), (1, 0), (1, 2), (1, 3), (2, 0), (2, 1), (2, 3), (3, 1), (3, 2))),))
+        moving = (0, 2, 1, 0)
+        self.assertIn(moving, plain_maps(kite, kite))
+        self.assertIs(shows_core(kite, ((0, 1, 2), moving)), False)
+        self.assertIs(shows_core(kite, ((0, 1, 2), (0, 1, 2, 0))), True)
+        self.assertIn(core(kite), plain_cores(kite))
+
     def test_bent_pairs(self):
         right = ((0, 1), (0, 1, 0))
         self.assertIs(shows_core(PATH, right), True)

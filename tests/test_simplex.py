@@ -38,6 +38,33 @@ def plain_greatest(rows, bounds, gains):
     return best
 
 
+class Watched(Simplex):
+    """Notes how each amount that comes inside was chosen, and what the bound was that it met."""
+
+    def __init__(self, rows, bounds, gains):
+        self.chosen = []
+        self.met = []
+        Simplex.__init__(self, rows, bounds, gains)
+
+    def _entering(self, careful):
+        column = Simplex._entering(self, careful)
+        last = self.entries[-1]
+        gaining = [at for at in range(len(self.outside)) if last[at] < 0]
+        self.chosen.append((careful, self.outside[column] if gaining else None, [(self.outside[at], last[at]) for at in gaining]))
+        return column
+
+    def _exchange(self, row, column):
+        self.met.append(self.entries[row][-1])
+        Simplex._exchange(self, row, column)
+
+
+class Careful(Simplex):
+    """Chooses by least numbers always."""
+
+    def _entering(self, careful):
+        return Simplex._entering(self, True)
+
+
 class SimplexTest(unittest.TestCase):
 
     def check(self, rows, bounds, gains):
@@ -68,9 +95,34 @@ class SimplexTest(unittest.TestCase):
             self.assertEqual(self.check(rows, bounds, gains), plain_greatest(rows, bounds, gains))
 
     def test_choices_that_could_come_back(self):
-        # E. Beale's: choices by the greatest gain alone would go round in a circle.
-        rows = [[25, -800, -100, 900], [50, -1200, -50, 300], [0, 0, 1, 0]]
-        self.assertEqual(self.check(rows, [0, 0, 1], [75, -2000, 50, -600]), plain_greatest(rows, [0, 0, 1], [75, -2000, 50, -600]))
+        # V. Chvatal's and E. Beale's: choices by the greatest gain alone could go round in a circle.
+        for rows, gains in [([[1, -11, -5, 18], [1, -3, -1, 2], [1, 0, 0, 0]], [10, -57, -9, -24]),
+                            ([[25, -800, -100, 900], [50, -1200, -50, 300], [0, 0, 1, 0]], [75, -2000, 50, -600])]:
+            self.assertEqual(self.check(rows, [0, 0, 1], gains), plain_greatest(rows, [0, 0, 1], gains))
+
+    def test_choices_are_by_least_numbers_after_steps_without_a_gain(self):
+        chance = random.Random(2)
+        without = 0
+        for _ in range(150):
+            rows = [[chance.randint(-3, 4) for _ in range(5)] for _ in range(4)] + [[1] * 5]
+            gains = [chance.randint(-2, 5) for _ in range(5)]
+            watched = Watched(rows, [0, 0, chance.randint(0, 1), 0, 3], gains)
+            self.assertEqual([careful for careful, _, _ in watched.chosen], [False] + [met == 0 for met in watched.met])
+            for careful, number, gaining in watched.chosen:
+                without += careful
+                if careful and gaining:
+                    self.assertEqual(number, min(other for other, _ in gaining))
+                elif gaining:
+                    self.assertEqual(dict(gaining)[number], min(gain for _, gain in gaining))
+        self.assertGreater(without, 100)
+
+    def test_least_numbers_alone_lead_to_the_same_gain(self):
+        chance = random.Random(3)
+        for _ in range(100):
+            rows = [[chance.randint(-3, 4) for _ in range(4)] for _ in range(3)] + [[1] * 4]
+            bounds, gains = [0, 0, chance.randint(0, 2), 5], [chance.randint(-2, 5) for _ in range(4)]
+            one, other = Simplex(rows, bounds, gains), Careful(rows, bounds, gains)
+            self.assertEqual(Fraction(one.gain(), one.unit), Fraction(other.gain(), other.unit))
 
     def test_no_gain(self):
         self.assertEqual(self.check([[1, 2]], [3], [-1, 0]), 0)

@@ -154,7 +154,7 @@ class ShowsWeightsTest(unittest.TestCase):
             (((2, (0, 0, 1, 1)), (1, 1)),), (((2, (0, 1, 0, 1)), (1, 1)),), (((1, (0, 1)), (1, 1)),), (((3, (0,) * 8), (1, 1)),),
             (((2, (0, 0, 0, 2)), (1, 1)),), (((2, (0, 0, 0, True)), (1, 1)),), (((2, [0, 0, 0, 1]), (1, 1)),), (([2, (0, 0, 0, 1)], (1, 1)),),
             ((LESSER, (True, 1)),), ((LESSER, (1, True)),), ((LESSER, [1, 1]),), ((LESSER, 1),), ((LESSER, (1,)),), ((LESSER, (1, 1, 1)),),
-            ((LESSER, ("1", "1")),), ((LESSER, (None, None)),), ((LESSER, 1, 1),), ([LESSER, (1, 1)],), [(LESSER, (1, 1))], (LESSER, (1, 1)),
+            ((LESSER, ("1", "1")),), ((LESSER, (None, None)),), ((LESSER, 1, 1),), ((LESSER, (1, 1), 0),), ([LESSER, (1, 1)],), [(LESSER, (1, 1))], (LESSER, (1, 1)),
             ((LESSER,),), (((1, 1), LESSER),), (), ((),), None, True, 0, "", {}, {LESSER: (1, 1)}, DEEP, ((DEEP, (1, 1)),), ((LESSER, DEEP),),
             ((LESSER, (1.0, 1)),), ((LESSER, (DEEP, DEEP)),), ((LESSER, HALF), None), (None, (LESSER, HALF)),
         ]
