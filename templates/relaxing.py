@@ -55,6 +55,13 @@ def _fixed(size, table, tree):
     return fixed
 
 
+def _add_prices(worths, prices, scope, amount):
+    """Adds an amount of prices to the worths of the values of the variables in a scope."""
+    for variable, told in zip(scope, prices):
+        for value, price in enumerate(told):
+            worths[variable][value] += amount * price
+
+
 class Relaxation:
     """A relaxed assignment of the least cost, and bounds and prices that certify it.
 
@@ -70,7 +77,7 @@ class Relaxation:
         self.choices = [price_choices(self.size, function) for function in functions]
         self.worths = self._blank()
         for index, scope, weight in self.terms:
-            self._add(self.worths, self.choices[index][0], scope, weight)
+            _add_prices(self.worths, self.choices[index][0], scope, weight)
         self.cheapest = [worths.index(min(worths)) for worths in self.worths]
         self.moves = [(number, choice) for number, term in enumerate(self.terms)
                       for choice in range(1, len(self.choices[term[0]]))]
@@ -82,12 +89,6 @@ class Relaxation:
     def _blank(self):
         """0 for each value of each variable."""
         return [[0] * self.size for _ in range(self.variables)]
-
-    def _add(self, worths, prices, scope, amount):
-        """Adds an amount of prices to the worths of the values."""
-        for variable, told in zip(scope, prices):
-            for value, price in enumerate(told):
-                worths[variable][value] += amount * price
 
     def _solved(self):
         changes = [self._change(number, choice) for number, choice in self.moves]
@@ -111,8 +112,8 @@ class Relaxation:
         """How the worths change when a term uses one more of another choice, and one less of the first one."""
         index, scope, _ = self.terms[number]
         change = self._blank()
-        self._add(change, self.choices[index][choice], scope, 1)
-        self._add(change, self.choices[index][0], scope, -1)
+        _add_prices(change, self.choices[index][choice], scope, 1)
+        _add_prices(change, self.choices[index][0], scope, -1)
         return change
 
     def _used(self):
@@ -144,7 +145,7 @@ class Relaxation:
         worths = self._blank()
         for (index, scope, _), used in zip(self.terms, self.used):
             for prices, amount in zip(self.choices[index], used):
-                self._add(worths, prices, scope, amount)
+                _add_prices(worths, prices, scope, amount)
         return self._ratios([min(row) for row in worths])
 
     def prices(self):
@@ -157,7 +158,7 @@ class Relaxation:
         places = list(range(len(scope)))
         sums = [[0] * self.size for _ in places]
         for prices, amount in zip(self.choices[index], self.used[number]):
-            self._add(sums, prices, places, amount)
+            _add_prices(sums, prices, places, amount)
         return tuple([self._ratios(row) for row in sums])
 
     def _ratios(self, numerators):

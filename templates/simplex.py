@@ -52,8 +52,8 @@ class Simplex:
         last = self.entries[-1]
         columns = [column for column in range(len(self.outside)) if last[column] < 0]
         if careful:
-            return min(columns, key=lambda column: self.outside[column], default=None)
-        return min(columns, key=lambda column: (last[column], self.outside[column]), default=None)
+            return min(columns, key=lambda place: self.outside[place], default=None)
+        return min(columns, key=lambda place: (last[place], self.outside[place]), default=None)
 
     def _leaving(self, column):
         """The row whose amount is the first to be 0 when the one of the column grows."""
