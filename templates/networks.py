@@ -84,7 +84,10 @@ def pinned(network, pins):
 
 
 def solution(network, masks):
-    """Some masks of single values under all constraints, within settled masks, None if there are none."""
+    """Some masks of single values under all constraints, within settled masks, None if there are none.
+
+    Masks are None where settling left none.
+    """
     choices = []
     while masks is not None:
         variable = _open_variable(network, masks)

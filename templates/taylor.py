@@ -131,5 +131,4 @@ def _acts(template, part, block, operation):
                 scopes.append((asked, (position(size, values),)))
     store = TableStore(extended)
     network = Network(size, power_of(size, arity), [store.constraint(index, scope) for index, scope in scopes])
-    masks = start(network)
-    return masks is not None and solution(network, masks) is not None
+    return solution(network, start(network)) is not None

@@ -5,10 +5,11 @@ import random
 import unittest
 
 from templates.clones import polymorphisms
+from templates.conditions import majority
 from templates.errors import BadArity, BadSize, BadTemplate
 from templates.formulas import hull
 from templates.graphs import graph
-from templates.structures import is_polymorphism
+from templates.structures import is_polymorphism, renamed
 from templates.taylor import blocker, cyclic, shows_blocker, siggers, weak_pair
 from tests.tools import (
     DEEP, ODD, bad_relations, check_any_value, check_bad, check_leftmost, plain_breaks, rows_of, shown, some_relation, told)
@@ -111,7 +112,12 @@ class EquationsTest(unittest.TestCase):
                 if is_idempotent(2, worth(2, (arity, table)), arity) and all(len(part) == 1 for part in values):
                     found.setdefault(tuple(min(part) for part in values), []).append((arity, table))
         seen = set()
-        for template in some_templates(80, 3, (2,), 4, 3):
+        # What the lesser of two keeps alone has a weak pair, but no majority.
+        horn = (2, ((3, tuple(row for row in rows_of(2, 3) if row != (1, 1, 0))), (1, ((0,),)), (1, ((1,),))))
+        self.assertIsNone(majority(horn))
+        self.assertIsNotNone(weak_pair(horn))
+        every = itertools.chain([horn, renamed(horn, (1, 0))], some_templates(60, 3, (2,), 4, 3), some_templates(40, 11, (2,), 7, 1))
+        for template in every:
             right = any(any(plain_has(template, v) for v in threes[key]) and any(plain_has(template, w) for w in fours[key])
                         for key in threes if key in fours)
             found = weak_pair(template)
