@@ -39,11 +39,12 @@ def plain_greatest(rows, bounds, gains):
 
 
 class Watched(Simplex):
-    """Notes how each amount that comes inside was chosen, and what the bound was that it met."""
+    """Notes how each amount that comes inside was chosen, what the bound was that it met, and what went outside for it."""
 
     def __init__(self, rows, bounds, gains):
         self.chosen = []
         self.met = []
+        self.left = []
         Simplex.__init__(self, rows, bounds, gains)
 
     def _entering(self, careful):
@@ -54,6 +55,10 @@ class Watched(Simplex):
         return column
 
     def _exchange(self, row, column):
+        ratios = {self.inside[at]: Fraction(entries[-1], entries[column])
+                  for at, entries in enumerate(self.entries[:-1]) if entries[column] > 0}
+        first = min(number for number, ratio in ratios.items() if ratio == min(ratios.values()))
+        self.left.append((self.inside[row], first))
         self.met.append(self.entries[row][-1])
         Simplex._exchange(self, row, column)
 
@@ -108,6 +113,7 @@ class SimplexTest(unittest.TestCase):
             gains = [chance.randint(-2, 5) for _ in range(5)]
             watched = Watched(rows, [0, 0, chance.randint(0, 1), 0, 3], gains)
             self.assertEqual([careful for careful, _, _ in watched.chosen], [False] + [met == 0 for met in watched.met])
+            self.assertTrue(all(number == first for number, first in watched.left))
             for careful, number, gaining in watched.chosen:
                 without += careful
                 if careful and gaining:
