@@ -1,6 +1,7 @@
 """Powers of templates, whose values are tuples and whose relations are told by formulas."""
 
-from templates.checks import MOST_VALUES, check_operation, check_size, is_integer, is_tuple, power_of
+from templates.checks import (
+    LONGEST_TABLE, MOST_VALUES, check_operation, check_size, is_integer, is_tuple, power_of)
 from templates.errors import BadArity, BadFormulas, TooMany
 from templates.formulas import is_formula, tells
 from templates.merging import Merging
@@ -8,8 +9,6 @@ from templates.operations import position
 from templates.relations import all_rows
 from templates.structures import (
     MOST_CONSTRAINTS, MOST_RELATIONS, MOST_VARIABLES, check_instance, check_template)
-
-LONGEST_TABLE = 256
 
 
 def power(template, many, formulas):
